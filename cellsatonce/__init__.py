@@ -1,0 +1,1 @@
+"""Cellsatonce: a writer, a reader and the cells between them."""

@@ -1,0 +1,36 @@
+"""What an integer, a row, a name and a promise are."""
+
+from cellsatonce.errors import BadPromise
+
+# The kinds of cells and the promises have the same names.
+KINDS = ("safe", "regular", "atomic")
+SIDES = ("writer", "reader")
+LONGEST_NAME = 8
+
+
+def is_integer(value):
+    """True for an int that is not a bool."""
+    return isinstance(value, int) and not isinstance(value, bool)
+
+
+def is_between(value, low, high):
+    """True for an integer from low to high."""
+    return is_integer(value) and low <= value <= high
+
+
+def is_row(value):
+    """True for a list or a tuple."""
+    return isinstance(value, (list, tuple))
+
+
+def is_name(value):
+    """True for a string of 1 to 8 lowercase letters from a to z."""
+    if not isinstance(value, str) or not 1 <= len(value) <= LONGEST_NAME:
+        return False
+    return all(["a" <= letter <= "z" for letter in value])
+
+
+def check_promise(promise):
+    """Raise BadPromise if this is not one of the three promises."""
+    if promise not in KINDS:
+        raise BadPromise()

@@ -1,0 +1,85 @@
+import importlib
+import inspect
+import unittest
+
+from cellsatonce.errors import CellError
+
+# For each module of the interface that exists: its functions and classes with their arguments,
+# and for each class the methods that stand in it itself.
+FUNCTIONS = {
+    "histories": {
+        "checked": "(history, *, size=2)",
+        "may_tell": "(history, promise, *, size=2, start=0)",
+        "fault": "(history, promise, *, size=2, start=0)",
+        "earliest": "(history, *, size=2, start=0)",
+        "order": "(history, *, size=2, start=0)",
+    },
+}
+CLASSES = {
+    "errors": {
+        "BadHistory": {"__init__": "(self, index)"},
+        "BadSetting": {"__init__": "(self, part)"},
+        "BadPromise": {},
+        "NoRead": {},
+        "BadCell": {"__init__": "(self, part)"},
+        "BadProgram": {"__init__": "(self, place, why)"},
+        "BadHouse": {"__init__": "(self, why)"},
+        "BadStep": {"__init__": "(self, index)"},
+        "TooMany": {"__init__": "(self, limit)"},
+        "NoPromise": {},
+        "BadLot": {},
+        "NotLeast": {"__init__": "(self, index)"},
+        "NoCase": {"__init__": "(self, why)"},
+        "BadText": {"__init__": "(self, line)"},
+    },
+    "cells": {
+        "Cell": {
+            "__init__": "(self, name, kind, size, start=0, *, owner='writer')",
+            "__eq__": "(self, other)",
+            "with_kind": "(self, kind)",
+            "weaker_than": "(self, other)",
+        },
+    },
+    "programs": {
+        "Program": {
+            "__init__": "(self, side, store, block)",
+            "__eq__": "(self, other)",
+            "walk": "(self)",
+            "without": "(self, place)",
+        },
+    },
+}
+
+
+class InterfaceTest(unittest.TestCase):
+    """The names and arguments of the interface, each in the file under which it is listed"""
+
+    def test_functions(self):
+        for module, functions in FUNCTIONS.items():
+            for name, signature in functions.items():
+                with self.subTest(module=module, name=name):
+                    found = getattr(importlib.import_module("cellsatonce." + module), name)
+                    self.assertTrue(inspect.isfunction(found))
+                    self.assertEqual(found.__module__, "cellsatonce." + module)
+                    self.assertEqual(str(inspect.signature(found)), signature)
+
+    def test_classes(self):
+        for module, classes in CLASSES.items():
+            for name, methods in classes.items():
+                with self.subTest(module=module, name=name):
+                    found = getattr(importlib.import_module("cellsatonce." + module), name)
+                    self.assertTrue(inspect.isclass(found))
+                    self.assertEqual(found.__module__, "cellsatonce." + module)
+                    for method, signature in methods.items():
+                        self.assertIn(method, vars(found))
+                        self.assertEqual(str(inspect.signature(vars(found)[method])), signature)
+
+    def test_only_errors_are_errors(self):
+        for module, classes in CLASSES.items():
+            for name in classes:
+                found = getattr(importlib.import_module("cellsatonce." + module), name)
+                self.assertEqual(issubclass(found, CellError), module == "errors")
+
+
+if __name__ == "__main__":
+    unittest.main()
