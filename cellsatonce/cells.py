@@ -1,10 +1,8 @@
 """The cells of a house."""
 
 from cellsatonce.errors import BadCell
-from cellsatonce.forms import KINDS, SIDES, is_between, is_name
+from cellsatonce.forms import KINDS, SIDES, is_between, is_name, is_size
 
-LEAST_SIZE = 2
-MOST_SIZE = 4
 RANKS = {"safe": 0, "regular": 1, "atomic": 2}
 
 
@@ -16,7 +14,7 @@ class Cell:
             raise BadCell("name")
         if kind not in KINDS:
             raise BadCell("kind")
-        if not is_between(size, LEAST_SIZE, MOST_SIZE):
+        if not is_size(size):
             raise BadCell("size")
         if not is_between(start, 0, size - 1):
             raise BadCell("start")

@@ -50,7 +50,7 @@ class BadHouse(CellError):
 
 
 class BadStep(CellError):
-    """The step with this index is not possible; -1 if there are no steps to speak of."""
+    """The step with this index is not possible; -1 if there is no row of steps, or no step."""
 
     def __init__(self, index):
         self.index = index
@@ -79,7 +79,7 @@ class NotLeast(CellError):
 
 
 class NoCase(CellError):
-    """The house is none of which the point speaks, and why."""
+    """Nothing is known of the house by its form alone, and why."""
 
     def __init__(self, why):
         self.why = why

@@ -1,4 +1,4 @@
-"""What an integer, a row, a name and a promise are."""
+"""What an integer, a row, a name, a size and a promise are."""
 
 from cellsatonce.errors import BadPromise
 
@@ -6,6 +6,8 @@ from cellsatonce.errors import BadPromise
 KINDS = ("safe", "regular", "atomic")
 SIDES = ("writer", "reader")
 LONGEST_NAME = 8
+LEAST_SIZE = 2
+MOST_SIZE = 4
 
 
 def is_integer(value):
@@ -28,6 +30,11 @@ def is_name(value):
     if not isinstance(value, str) or not 1 <= len(value) <= LONGEST_NAME:
         return False
     return all(["a" <= letter <= "z" for letter in value])
+
+
+def is_size(value):
+    """True for the size of a cell, of a local variable or of a house."""
+    return is_between(value, LEAST_SIZE, MOST_SIZE)
 
 
 def check_promise(promise):

@@ -3,6 +3,7 @@
 from cellsatonce.errors import BadHistory, BadSetting, NoRead
 from cellsatonce.forms import check_promise, is_between, is_row
 
+# A history may have one value more than a house.
 LEAST_SIZE = 2
 MOST_SIZE = 5
 EVENT_LENGTHS = {"write": 2, "wrote": 1, "read": 1, "told": 2}

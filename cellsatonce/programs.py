@@ -1,10 +1,8 @@
 """The programs that the writer and the reader follow."""
 
 from cellsatonce.errors import BadProgram
-from cellsatonce.forms import SIDES, is_between, is_name, is_row
+from cellsatonce.forms import SIDES, is_between, is_name, is_row, is_size
 
-LEAST_SIZE = 2
-MOST_SIZE = 4
 MOST_VARIABLES = 4
 MOST_STATEMENTS = 16
 MOST_AROUND = 2
@@ -65,7 +63,7 @@ def is_variable(name, room):
     """True for the name of a local variable with its size and its start."""
     if not is_name(name) or name == "new" or not is_row(room) or len(room) != 2:
         return False
-    return is_between(room[0], LEAST_SIZE, MOST_SIZE) and is_between(room[1], 0, room[0] - 1)
+    return is_size(room[0]) and is_between(room[1], 0, room[0] - 1)
 
 
 def is_statement(statement):

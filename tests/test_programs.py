@@ -2,6 +2,7 @@ import inspect
 import itertools
 import unittest
 
+from cellsatonce.cells import Cell
 from cellsatonce.errors import BadProgram
 from cellsatonce.programs import Program
 from helper import ODD_VALUES, Case
@@ -536,8 +537,10 @@ class AttributesTest(ProgramCase):
 
     def test_no_other_value_is_equal(self):
         program = reader([GET])
-        for value in ODD_VALUES + [program.block, (program.side, program.store, program.block)]:
+        others = [program.block, (program.side, program.store, program.block), Cell("a", "safe", 2)]
+        for value in ODD_VALUES + others:
             self.assertFalse(program == value)
+            self.assertFalse(value == program)
             self.assertTrue(program != value)
 
 
