@@ -1,13 +1,17 @@
-"""What an integer, a row, a name, a size and a promise are."""
+"""What an integer, a row, a name, a size, a promise and a limit are."""
 
-from cellsatonce.errors import BadPromise
+from cellsatonce.errors import BadPromise, BadSetting
 
 # The kinds of cells and the promises have the same names.
 KINDS = ("safe", "regular", "atomic")
 SIDES = ("writer", "reader")
+# Stands in states, steps and watches for a value where there is none.
+NONE = -1
 LONGEST_NAME = 8
 LEAST_SIZE = 2
 MOST_SIZE = 4
+# The greatest limit of an exploring, and the one that is taken where none is passed.
+MOST_REACHED = 3000
 
 
 def is_integer(value):
@@ -41,3 +45,9 @@ def check_promise(promise):
     """Raise BadPromise if this is not one of the three promises."""
     if promise not in KINDS:
         raise BadPromise()
+
+
+def check_limit(limit):
+    """Raise BadSetting if this is not a limit of an exploring."""
+    if not is_between(limit, 1, MOST_REACHED):
+        raise BadSetting("limit")

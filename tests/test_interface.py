@@ -14,6 +14,21 @@ FUNCTIONS = {
         "earliest": "(history, *, size=2, start=0)",
         "order": "(history, *, size=2, start=0)",
     },
+    "steps": {
+        "initial": "(house)",
+        "moves": "(house, state)",
+        "event_of": "(step)",
+    },
+    "runs": {
+        "run": "(house, steps)",
+    },
+    "standings": {
+        "first_watch": "(promise, start)",
+        "next_watch": "(promise, watch, event)",
+        "first_standing": "(house, promise)",
+        "next_standings": "(house, promise, standing)",
+        "reach": "(house, promise, *, limit=3000)",
+    },
 }
 CLASSES = {
     "errors": {
@@ -46,6 +61,28 @@ CLASSES = {
             "__eq__": "(self, other)",
             "walk": "(self)",
             "without": "(self, place)",
+        },
+    },
+    "houses": {
+        "House": {
+            "__init__": "(self, cells, writer, reader, *, size=2, start=0)",
+            "__eq__": "(self, other)",
+            "__contains__": "(self, name)",
+            "cell": "(self, name)",
+            "with_kinds": "(self, kinds)",
+            "with_programs": "(self, writer, reader)",
+        },
+    },
+    "runs": {
+        "Record": {},
+        "Running": {
+            "__init__": "(self, house)",
+            "choices": "(self)",
+            "can": "(self, step)",
+            "step": "(self, step)",
+            "back": "(self)",
+            "would": "(self, steps)",
+            "record": "(self)",
         },
     },
 }
