@@ -51,3 +51,9 @@ def check_limit(limit):
     """Raise BadSetting if this is not a limit of an exploring."""
     if not is_between(limit, 1, MOST_REACHED):
         raise BadSetting("limit")
+
+
+def check_side(side):
+    """Raise BadSetting if this is neither the writer nor the reader."""
+    if side not in SIDES:
+        raise BadSetting("side")

@@ -48,8 +48,13 @@ class Program:
 
     def without(self, place):
         """Give the program without the statement of this place and all that stands in its blocks."""
-        store = {name: (size, start) for name, size, start in self.store}
-        return Program(self.side, store, block_without(self.block, 0, place))
+        return with_block(self, block_without(self.block, 0, place))
+
+
+def with_block(program, block):
+    """Give a program of the same side and with the same variables, but with another block."""
+    store = {name: (size, start) for name, size, start in program.store}
+    return Program(program.side, store, block)
 
 
 def is_store(store):

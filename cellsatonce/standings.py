@@ -1,7 +1,7 @@
 """The standings of a house: its states, each with what a promise needs to know of the past."""
 
-from cellsatonce.errors import TooMany
 from cellsatonce.forms import MOST_REACHED, NONE, check_limit, check_promise
+from cellsatonce.searches import Search
 from cellsatonce.steps import event_of, initial, moves
 
 # The modes of "safe": no read is under way, or one that no write overlaps so far, or one that a
@@ -47,8 +47,7 @@ def next_standings(house, promise, standing):
     state, watch = standing
     pairs = []
     for step, behind in moves(house, state):
-        event = event_of(step)
-        after = watch if event is None else next_watch(promise, watch, event)
+        after = watch_behind(promise, watch, step)
         pairs.append((step, None if after is None else (behind, after)))
     return pairs
 
@@ -57,25 +56,19 @@ def reach(house, promise, *, limit=MOST_REACHED):
     """Give the number of reached standings."""
     check_promise(promise)
     check_limit(limit)
-    return len(reached(house, promise, limit))
+    return len(explored(house, promise, limit).nodes)
 
 
-def reached(house, promise, limit):
-    """Give all reached standings; raise TooMany if they are more than the limit."""
-    found = [first_standing(house, promise)]
-    known = set(found)
-    done = 0
-    while done < len(found):
-        pairs = next_standings(house, promise, found[done])
-        for _, standing in pairs:
-            if standing is None or standing in known:
-                continue
-            if len(found) == limit:
-                raise TooMany(limit)
-            known.add(standing)
-            found.append(standing)
-        done += 1
-    return found
+def explored(house, promise, limit):
+    """Give the search for all reached standings; raise TooMany if they are more than the limit."""
+    first = first_standing(house, promise)
+    return Search(first, lambda standing: next_standings(house, promise, standing), limit)
+
+
+def watch_behind(promise, watch, step):
+    """Give the watch behind a step, or None if the step breaks the promise."""
+    event = event_of(step)
+    return watch if event is None else next_watch(promise, watch, event)
 
 
 def joined(values, value):

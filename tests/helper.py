@@ -3,7 +3,7 @@
 import copy
 import unittest
 
-from cellsatonce.errors import CellError
+from cellsatonce.errors import BadPromise, BadSetting, CellError
 
 
 def nested(wrap, depth):
@@ -27,6 +27,10 @@ ODD_VALUES = [
     nested(lambda value: [{"a": (value,)}], 30),
 ]
 
+NO_PROMISES = ODD_VALUES + ["none", "Atomic", "regular ", "writer", ["safe"], ("atomic",), 0, 1, 2]
+# Of the odd values, the 6 alone is a limit.
+NO_LIMITS = [value for value in ODD_VALUES if value != 6] + [0, 3001, "3000", [1], (1,), {1: 1}]
+
 
 class Case(unittest.TestCase):
     """A test case that knows the errors of the package."""
@@ -41,6 +45,18 @@ class Case(unittest.TestCase):
         for name, value in vars(error).items():
             self.assertIs(type(getattr(caught.exception, name)), type(value))
         self.assertEqual((args, kwargs), before)
+
+    def raises_for_limits(self, call):
+        """The call raises an error for each wrong limit."""
+        for value in NO_LIMITS:
+            with self.subTest(limit=str(value)[:40]):
+                self.raises(BadSetting("limit"), call, limit=value)
+
+    def raises_for_promises(self, call):
+        """The call raises an error for each wrong promise."""
+        for value in NO_PROMISES:
+            with self.subTest(promise=str(value)[:40]):
+                self.raises(BadPromise(), call, value)
 
     def raises_for_odd(self, error, call):
         """The call raises this error for each odd value."""

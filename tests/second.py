@@ -202,9 +202,15 @@ def watch_of(history, promise, size, start):
 
 def standings_of(house, promise, most):
     """All reached standings, or the first ones if there are more than most."""
+    return gone_from_the_first(house, promise, most)[0]
+
+
+def gone_from_the_first(house, promise, most):
+    """The reached standings, but not many more than most, and whether a step from them is a break."""
     first = (initial(house), watch_of([], promise, house.size, house.start))
     histories = {first: []}
     todo = [first]
+    broken = False
     for standing in todo:
         for step, state in moves(house, standing[0]):
             event = event_of(step)
@@ -214,7 +220,33 @@ def standings_of(house, promise, most):
                 if behind not in histories and len(todo) <= most:
                     histories[behind] = history
                     todo.append(behind)
-    return todo
+            else:
+                broken = True
+    return todo, broken
+
+
+def first_run(house, verdict, most):
+    """The first of the shortest runs that is to be found, by going through all runs step by step.
+
+    The verdict on a history is "found", "on" or "off". None means that no run of at most that many
+    steps is to be found; if the runs become too many, the answer is "many".
+    """
+    level = {(initial(house), ()): []}
+    for _ in range(most):
+        further = {}
+        for (state, history), steps in level.items():
+            for step, behind in moves(house, state):
+                event = event_of(step)
+                longer = history if event is None else history + (event,)
+                word = "on" if event is None else verdict(longer)
+                if word == "found":
+                    return steps + [step]
+                if word == "on":
+                    further.setdefault((behind, longer), steps + [step])
+        level = further
+        if len(level) > 4000:
+            return "many"
+    return None
 
 
 def has_history(house, history):

@@ -34,6 +34,72 @@ def write_alone(store, block, *, cells=(), size=2):
     return House(cells, Program("writer", store, block), Program("reader", {}, []), size=size)
 
 
+def big():
+    """A house with more than 3000 standings."""
+    writer = Program("writer", {}, [("write", "a", "new"), ("write", "b", "new")])
+    reader = Program("reader", {"x": (4, 0), "y": (4, 0)}, [("get", "x", "a"), ("get", "y", "b"), ("return", "x")])
+    return House([Cell("a", "regular", 4), Cell("b", "regular", 4)], writer, reader, size=4)
+
+
+def careful(kind="regular", start=0):
+    """A bit that is written only if its value changes, so that a safe cell is as good as a regular one."""
+    writer = Program("writer", {"x": (2, start)}, [
+        ("if", "x", "new", [], [("write", "a", "new"), ("set", "x", "new")]),
+    ])
+    reader = Program("reader", {"y": (2, 0)}, [("get", "y", "a"), ("return", "y")])
+    return House([Cell("a", kind, 2, start)], writer, reader, start=start)
+
+
+def endless(kind="regular"):
+    """A reader that waits for ever for a cell that nobody writes."""
+    block = [("while", "x", 0, [("get", "x", "a")]), ("return", 1)]
+    return House([Cell("a", kind, 2)], Program("writer", {}, []), Program("reader", {"x": (2, 0)}, block))
+
+
+def scanned(kind="regular", careful_writer=False):
+    """Three values in two bits: the value is the number of the first bit that is 1, or else 2.
+
+    A writer sets the bit of the value and then clears those below; a careful one writes no bit
+    that has the value already.
+    """
+    def write(name, value):
+        statement = ("write", name, value)
+        local = {"a": "x", "b": "y"}[name]
+        return ("if", local, value, [], [statement, ("set", local, value)]) if careful_writer else statement
+
+    store = {"v": (3, 0), "x": (2, 1), "y": (2, 0)} if careful_writer else {"v": (3, 0)}
+    writer = Program("writer", store, [
+        ("set", "v", "new"),
+        ("if", "v", 0, [write("a", 1)], [("if", "v", 1, [write("b", 1)], [write("b", 0)]), write("a", 0)]),
+    ])
+    reader = Program("reader", {"z": (2, 0)}, [
+        ("get", "z", "a"), ("if", "z", 1, [("return", 0)], []),
+        ("get", "z", "b"), ("if", "z", 1, [("return", 1)], []), ("return", 2),
+    ])
+    return House([Cell("a", kind, 2, 1), Cell("b", kind, 2)], writer, reader, size=3)
+
+
+def two_bits(low="regular", high="regular"):
+    """The reader tells the cell b; the writer writes a and the reader reads it for nothing."""
+    writer = Program("writer", {}, [("write", "a", 0), ("write", "b", "new")])
+    reader = Program("reader", {"x": (2, 0)}, [("get", "x", "a"), ("get", "x", "b"), ("return", "x")])
+    return House([Cell("a", low, 2), Cell("b", high, 2)], writer, reader)
+
+
+def either(*kinds):
+    """A writer that goes wrong only if it gets 1 from both cells of the reader, which are 0 for ever."""
+    names = zip("acd", kinds, ["writer", "reader", "reader"])
+    cells = [Cell(name, kind, 2, owner=owner) for name, kind, owner in names]
+    right = [("write", "a", "new")]
+    writer = Program("writer", {"x": (2, 0), "y": (2, 0)}, [
+        ("get", "x", "c"),
+        ("if", "x", 1, [("get", "y", "d"), ("if", "y", 1, [("write", "a", 0)], right)], right),
+        ("set", "x", 0), ("set", "y", 0),
+    ])
+    block = [("write", "c", 0), ("write", "d", 0), ("get", "z", "a"), ("return", "z")]
+    return House(cells, writer, Program("reader", {"z": (2, 0)}, block))
+
+
 def lots(house):
     """All rows of kinds that are at or below those of the house."""
     return list(itertools.product(*[KINDS[:cell.rank + 1] for cell in house.cells]))
@@ -100,3 +166,30 @@ def random_house(source, *, most_cells=3, least=0):
     writer = random_program(source, "writer", cells, least)
     reader = random_program(source, "reader", cells, least)
     return House(cells, writer, reader, size=size, start=source.randrange(size))
+
+
+def with_more(source, house, program):
+    """The program with a random statement more, or as it is where that is no program."""
+    names = [name for name, _, _ in program.store]
+    statement = random_statement(source, program.side, names, house.cells, 2)
+    block = list(program.block)
+    block.insert(source.randint(0, len(block)), statement)
+    store = {name: (size, start) for name, size, start in program.store}
+    try:
+        return Program(program.side, store, block)
+    except BadProgram:
+        return program
+
+
+def near_house(source):
+    """A house that is one of those by name but for a few statements more, and so keeps more than most."""
+    kinds = [source.choice(KINDS) for _ in range(3)]
+    house = source.choice([bit(kinds[0]), careful(kinds[0]), bit(kinds[0], 3), two_bits(*kinds[:2]), endless(kinds[0])])
+    for _ in range(source.randint(1, 3)):
+        writer, reader = house.writer, house.reader
+        if source.choice([True, False]):
+            writer = with_more(source, house, writer)
+        else:
+            reader = with_more(source, house, reader)
+        house = house.with_programs(writer, reader)
+    return house

@@ -29,6 +29,27 @@ FUNCTIONS = {
         "next_standings": "(house, promise, standing)",
         "reach": "(house, promise, *, limit=3000)",
     },
+    "kept": {
+        "breaking": "(house, promise, *, limit=3000)",
+        "strongest": "(house, *, limit=3000)",
+        "closed": "(house, promise, *, limit=3000)",
+        "closed_fault": "(house, promise, standings)",
+        "inversion": "(house, *, limit=3000)",
+    },
+    "weaker": {
+        "weaker_lots": "(house, promise, *, limit=3000)",
+        "lot_paper": "(house, promise, lot, *, limit=3000)",
+        "paper_fault": "(house, promise, lot, paper)",
+    },
+    "spare": {
+        "spare_statements": "(house, promise, *, limit=3000)",
+        "least_programs": "(house, promise, *, limit=3000)",
+    },
+    "waits": {
+        "states": "(house, *, limit=3000)",
+        "longest": "(house, side, *, limit=3000)",
+        "waits": "(house, side, *, alone=False, limit=3000)",
+    },
 }
 CLASSES = {
     "errors": {

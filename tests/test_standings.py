@@ -10,18 +10,9 @@ from cellsatonce.programs import Program
 from cellsatonce.runs import Running
 from cellsatonce.standings import first_standing, first_watch, next_standings, next_watch, reach
 from cellsatonce.steps import event_of, initial, moves
-from helper import ODD_VALUES, Case
+from helper import NO_LIMITS, NO_PROMISES, Case
 from second import standings_of, watch_of
-from small_houses import PROMISES, bit, empty, random_house
-
-NO_PROMISES = ODD_VALUES + ["none", "Atomic", "regular ", "writer", ["safe"], ("atomic",), 0, 1, 2]
-
-
-def big():
-    """A house with more than 3000 standings."""
-    writer = Program("writer", {}, [("write", "a", "new"), ("write", "b", "new")])
-    reader = Program("reader", {"x": (4, 0), "y": (4, 0)}, [("get", "x", "a"), ("get", "y", "b"), ("return", "x")])
-    return House([Cell("a", "regular", 4), Cell("b", "regular", 4)], writer, reader, size=4)
+from small_houses import PROMISES, big, bit, empty, random_house
 
 
 def watched(promise, history, start=0):
@@ -446,13 +437,10 @@ class ReachTest(Case):
 
     def test_wrong_limits(self):
         house = bit()
-        for value in [0, -1, 3001, 10 ** 39, True, False, None, "1", "3000", [1], (1,), {1: 1}]:
+        for value in NO_LIMITS:
             self.raises(BadSetting("limit"), lambda: reach(house, "safe", limit=value))
             # The limit is checked ahead of all exploring.
             self.raises(BadSetting("limit"), lambda: reach(big(), "safe", limit=value))
-        for value in ODD_VALUES:
-            if value != 6 or value is True:
-                self.raises(BadSetting("limit"), lambda: reach(house, "safe", limit=value))
 
     def test_wrong_promises_ahead_of_wrong_limits(self):
         house = bit()
