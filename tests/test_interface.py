@@ -45,6 +45,18 @@ FUNCTIONS = {
         "spare_statements": "(house, promise, *, limit=3000)",
         "least_programs": "(house, promise, *, limit=3000)",
     },
+    "limits": {
+        "not_atomic": "(house, *, limit=3000)",
+    },
+    "worths": {
+        "told_by": "(house, *, limit=3000)",
+        "pairs": "(house, *, limit=3000)",
+        "renamed": "(house, names)",
+    },
+    "texts": {
+        "house_text": "(house)",
+        "read_house": "(text)",
+    },
     "waits": {
         "states": "(house, *, limit=3000)",
         "longest": "(house, side, *, limit=3000)",
@@ -104,6 +116,17 @@ CLASSES = {
             "back": "(self)",
             "would": "(self, steps)",
             "record": "(self)",
+        },
+    },
+    "live": {
+        "Live": {
+            "__init__": "(self, house, promise)",
+            "step": "(self, step)",
+            "rewatch": "(self, promise)",
+            "kept": "(self)",
+            "standing": "(self)",
+            "tellable": "(self)",
+            "events": "(self)",
         },
     },
 }

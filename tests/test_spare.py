@@ -255,6 +255,16 @@ class LeastProgramsTest(Case):
         self.assertEqual(least_programs(house, "regular"), [((0,), (0, 1)), ((1,), (0, 1))])
         self.assertEqual(spare_statements(house, "regular"), [("writer", 0), ("writer", 1)])
 
+    def test_the_choices_ascend(self):
+        # The write of the new value is enough, and so is that of the variable with the set ahead.
+        writer = Program("writer", {"x": (2, 0)}, [("set", "x", "new"), ("write", "a", "new"), ("write", "a", "x")])
+        house = bit().with_programs(writer, bit().reader)
+        self.assertEqual(least_programs(house, "regular"), [((0, 2), (0, 1)), ((1,), (0, 1))])
+        reader = Program("reader", {"x": (2, 0), "y": (2, 0)}, [
+            ("get", "x", "a"), ("get", "y", "a"), ("set", "x", "y"), ("return", "x")])
+        house = bit("atomic").with_programs(bit().writer, reader)
+        self.assertEqual(least_programs(house, "atomic"), [((0,), (0, 3)), ((0,), (1, 2, 3))])
+
     def test_kept_statements_stand_within_kept_ones(self):
         # The write stands in a block that is always followed, and the "if" is kept with it.
         writer = Program("writer", {"x": (2, 0)}, [("if", "x", 0, [("write", "a", "new")], [("set", "x", 0)])])

@@ -223,6 +223,20 @@ class LongestTest(Case):
         self.assertEqual(self.both(House(cells, writer, house.reader, size=2)), [1, 2])
         self.assertEqual(self.both(House(cells, writer, house.reader, size=3)), [1, 5])
 
+    def test_ways_that_meet_again(self):
+        # Behind the "if" nothing tells that more steps than one were made.
+        cells = [Cell("a", "atomic", 2), Cell("b", "atomic", 2)]
+        block = [("get", "x", "a"), ("if", "x", 1, [("get", "y", "b")] * 3, []), ("set", "x", 0), ("get", "y", "b")]
+        reader = Program("reader", {"x": (2, 0), "y": (2, 0)}, block)
+        self.assertEqual(self.both(House(cells, bit().writer, reader)), [1, 5])
+
+    def test_steps_of_the_other_side_in_between(self):
+        # The two gets differ only if the writer writes in between.
+        reader = Program("reader", {"x": (2, 0), "y": (2, 0)}, [
+            ("get", "x", "a"), ("get", "y", "a"), ("if", "x", ("plus", "y", 1), [("get", "x", "a")] * 2, [])])
+        self.assertEqual(self.both(bit("atomic").with_programs(bit().writer, reader)), [1, 4])
+        self.assertEqual(self.both(bit("safe").with_programs(bit().writer, reader)), [2, 8])
+
     def test_loops_that_end(self):
         # The variable is 0 when the first round begins alone.
         cells = [Cell("a", "regular", 2)]
