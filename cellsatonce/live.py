@@ -1,6 +1,5 @@
 """Runs that grow and are watched for a promise."""
 
-from cellsatonce.forms import check_promise
 from cellsatonce.histories import may_tell
 from cellsatonce.runs import Running, events_of
 from cellsatonce.standings import first_watch, next_watch
@@ -21,7 +20,6 @@ class Live:
 
     @promise.setter
     def promise(self, value):
-        check_promise(value)
         watch = first_watch(value, self.house.start)
         for event in events_of(self.running.made):
             watch = watch_on(value, watch, event)

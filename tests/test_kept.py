@@ -193,7 +193,7 @@ class StrongestTest(Case):
 
     def test_by_breaking(self):
         seen = dict.fromkeys(PROMISES + ["none"], 0)
-        for seed in range(300):
+        for seed in range(150):
             house = random_house(random.Random(seed), most_cells=1, least=seed % 3)
             try:
                 found = strongest(house, limit=1000)
@@ -204,8 +204,8 @@ class StrongestTest(Case):
             self.assertEqual(kept, PROMISES[:len(kept)])
             self.assertEqual(found, (["none"] + kept)[-1])
             seen[found] += 1
-        self.assertGreater(seen["atomic"], 5)
-        self.assertGreater(seen["none"], 100)
+        self.assertGreater(seen["atomic"], 2)
+        self.assertGreater(seen["none"], 50)
 
     def test_a_reader_that_never_ends_a_round(self):
         for kind in PROMISES:
@@ -222,7 +222,7 @@ class StrongestTest(Case):
         self.raises(TooMany(many["atomic"] - 1), lambda: strongest(house, limit=many["atomic"] - 1))
         # A limit that later promises alone pass.
         later = [(house, "atomic"), (bit(), "regular"), (bit("safe"), "safe"), (empty(), "none")]
-        for seed in range(300):
+        for seed in range(120):
             house = random_house(random.Random(seed), most_cells=1, least=2)
             later.append((house, None))
         passed = 0
@@ -255,7 +255,7 @@ class ClosedTest(Case):
 
     def test_all_reached_standings(self):
         counted = 0
-        for seed, promise in itertools.product(range(120), PROMISES):
+        for seed, promise in itertools.product(range(80), PROMISES):
             house = random_house(random.Random(seed), most_cells=2, least=seed % 3)
             expected = standings_of(house, promise, 300)
             if len(expected) <= 300:
@@ -264,7 +264,7 @@ class ClosedTest(Case):
                 self.assertIs(type(found), list)
                 self.assertEqual(found, sorted(expected))
                 self.assertEqual(len(found), reach(house, promise))
-        self.assertGreater(counted, 150)
+        self.assertGreater(counted, 80)
 
     def test_ascending_and_each_once(self):
         for house, promise in itertools.product([bit(), bit("safe", 3), scanned("atomic"), liar()], PROMISES):

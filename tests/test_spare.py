@@ -174,7 +174,7 @@ class SpareStatementsTest(Case):
 
     def test_found_a_second_way(self):
         seen = 0
-        for house, promise in kept_houses(80):
+        for house, promise in kept_houses(60):
             found = spare_statements(house, promise)
             self.assertIs(type(found), list)
             self.assertEqual(found, spare_pairs(house, promise))
@@ -182,7 +182,7 @@ class SpareStatementsTest(Case):
         self.assertGreater(seen, 50)
 
     def test_random_houses(self):
-        for seed, promise in itertools.product(range(150), PROMISES):
+        for seed, promise in itertools.product(range(80), PROMISES):
             house = random_house(random.Random(seed), most_cells=2, least=1)
             try:
                 most = max(reach(rest, promise, limit=200) for rest in rests_of(house))
@@ -211,7 +211,7 @@ class SpareStatementsTest(Case):
     def test_the_house_is_explored_ahead_of_the_rests(self):
         # It breaks the promise within a limit that a rest of it passes.
         counted = 0
-        for seed in range(200):
+        for seed in range(100):
             house = near_house(random.Random(seed))
             for promise in PROMISES:
                 try:

@@ -229,6 +229,10 @@ class LongestTest(Case):
         block = [("get", "x", "a"), ("if", "x", 1, [("get", "y", "b")] * 3, []), ("set", "x", 0), ("get", "y", "b")]
         reader = Program("reader", {"x": (2, 0), "y": (2, 0)}, block)
         self.assertEqual(self.both(House(cells, bit().writer, reader)), [1, 5])
+        # The short way is there from the first round on, and the long one only in later rounds.
+        block = [("if", "n", 0, [("set", "n", 1)], [("get", "y", "b")] * 6), ("get", "y", "b")]
+        house = read_alone({"n": (2, 0), "y": (2, 0)}, block, cells=cells[1:])
+        self.assertEqual(self.both(house), [0, 7])
 
     def test_steps_of_the_other_side_in_between(self):
         # The two gets differ only if the writer writes in between.
@@ -236,6 +240,9 @@ class LongestTest(Case):
             ("get", "x", "a"), ("get", "y", "a"), ("if", "x", ("plus", "y", 1), [("get", "x", "a")] * 2, [])])
         self.assertEqual(self.both(bit("atomic").with_programs(bit().writer, reader)), [1, 4])
         self.assertEqual(self.both(bit("safe").with_programs(bit().writer, reader)), [2, 8])
+        # It can do so once only, as it writes the same value for ever.
+        writer = Program("writer", {}, [("write", "a", 1)])
+        self.assertEqual(self.both(bit("atomic").with_programs(writer, reader)), [1, 4])
 
     def test_loops_that_end(self):
         # The variable is 0 when the first round begins alone.
@@ -278,7 +285,7 @@ class LongestTest(Case):
 
     def test_a_second_way(self):
         seen = {"none": 0, "zero": 0, "more": 0}
-        for seed in range(300):
+        for seed in range(180):
             source = random.Random(seed)
             house = random_house(source, most_cells=2, least=seed % 4) if seed % 3 else near_house(source)
             if len(states_of(house, 400)) > 400:
@@ -287,7 +294,7 @@ class LongestTest(Case):
                 found = longest(house, side)
                 self.assertEqual(found, longest_of(house, side))
                 seen["none" if found is None else "more" if found > 0 else "zero"] += 1
-        self.assertGreater(min(seen.values()), 15, seen)
+        self.assertGreater(min(seen.values()), 8, seen)
 
     def test_no_round_of_a_run_is_longer(self):
         source = random.Random(11)
@@ -397,7 +404,7 @@ class WaitsTest(Case):
 
     def test_a_second_way(self):
         seen = {(first, second): 0 for first in [True, False] for second in [True, False]}
-        for seed in range(400):
+        for seed in range(200):
             source = random.Random(seed)
             house = random_house(source, most_cells=2, least=seed % 4) if seed % 3 else near_house(source)
             if len(states_of(house, 400)) > 400:
@@ -408,7 +415,7 @@ class WaitsTest(Case):
                 self.each(house, side, expected, expected_alone)
                 seen[expected, expected_alone] += 1
         self.assertGreater(seen[False, False], 50)
-        self.assertGreater(seen[True, True], 15)
+        self.assertGreater(seen[True, True], 8)
         self.assertEqual(seen[False, True], 0)
 
     def test_both_sides_may_be_in_a_round_without_an_end(self):
